@@ -1,0 +1,1 @@
+"""Nocrossing: points of a ring parted into blocks that never cross."""
