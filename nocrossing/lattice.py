@@ -14,7 +14,7 @@ def below(points, one, other):
     return all([lies_within(block, places) for block in one])
 
 
-def refuse_unless_free(points, one, other):
+def refuse_unless_both_free(points, one, other):
     # Both are asked whether they are partings before either is asked whether it crosses.
     refuse_no_parting(points, one)
     refuse_no_parting(points, other)
@@ -24,7 +24,7 @@ def refuse_unless_free(points, one, other):
 
 def met(points, one, other):
     # Blocks told so can't cross: two that did would come from unlike blocks of one or of other, which cross too.
-    refuse_unless_free(points, one, other)
+    refuse_unless_both_free(points, one, other)
     return blocks_by(list(zip(block_places(points, one), block_places(points, other))))
 
 
@@ -42,7 +42,7 @@ def made_free(labels):
 
 
 def joined(points, one, other):
-    refuse_unless_free(points, one, other)
+    refuse_unless_both_free(points, one, other)
     labels = block_places(points, one)
     for block in other:
         for point in block:

@@ -74,9 +74,13 @@ def refuse_crossing(points, blocks):
         raise Crossing(found)
 
 
-def order_of(points, blocks):
+def refuse_unless_free(points, blocks):
     refuse_no_parting(points, blocks)
     refuse_crossing(points, blocks)
+
+
+def order_of(points, blocks):
+    refuse_unless_free(points, blocks)
     order = [0] * points
     for block in blocks:
         for place, point in enumerate(block):

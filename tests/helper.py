@@ -43,6 +43,14 @@ def lies_below(one, other):
     return all(any(set(block) <= set(wide) for wide in other) for block in one)
 
 
+def next_points(points, blocks):
+    """Point by point the one that follows in its block, and of a block's last one its first."""
+    following = {}
+    for block in blocks:
+        following.update(zip(block, block[1:] + block[:1]))
+    return [following[point] for point in range(points)]
+
+
 def alone(points):
     return [[point] for point in range(points)]
 
@@ -50,6 +58,34 @@ def alone(points):
 def together(points):
     return [list(range(points))] if points else []
 
+
+# Numbers of points and crossing partings of them.
+CROSSING = [
+    (4, [[0, 2], [1, 3]]),
+    (5, [[0, 2, 4], [1, 3]]),
+    (5, [[0], [1, 3], [2, 4]]),
+    (5, [[0, 3], [1], [2, 4]]),
+    (6, [[0, 1, 2, 4], [3, 5]]),
+    (6, [[0, 3], [1, 4], [2, 5]]),
+    (7, [[0, 6], [1, 3], [2, 4], [5]]),
+    (10, [[0, 8], [1], [2], [3], [4], [5], [6], [7, 9]]),
+    (10, [[0, 2, 4, 6, 8], [1, 3, 5, 7, 9]]),
+    (10, [[0], [1], [2], [3], [4], [5], [6, 8], [7, 9]]),
+]
+
+# Numbers of points and free partings of them.
+FREE = [
+    (0, []),
+    (1, [[0]]),
+    (3, [[0, 2], [1]]),
+    (4, [[0, 3], [1, 2]]),
+    (4, [[0, 1], [2, 3]]),
+    (6, [[0, 1, 5], [2, 4], [3]]),
+    (10, [[0, 9], [1, 8], [2, 7], [3, 6], [4, 5]]),
+    (10, [[0, 3, 6, 9], [1, 2], [4, 5], [7, 8]]),
+    (10, alone(10)),
+    (10, together(10)),
+]
 
 # A number of points and blocks that are no parting of them, each with what is wrong.
 NO_PARTINGS = [

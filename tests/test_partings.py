@@ -1,41 +1,14 @@
 """Points [1], [2], [3] and [6]: nocrossing.partings."""
 
 import unittest
-from copy import deepcopy
 from itertools import product
 
-from helper import NO_PARTINGS, all_partings, alone, crosses_at, is_free, together
+from helper import CROSSING, FREE, NO_PARTINGS, all_partings, alone, crosses_at, is_free, together
 from nocrossing.errors import Crossing, NoParting
 from nocrossing.partings import crossing, is_parting, order_of
 
 BELL = [1, 1, 2, 5, 15, 52, 203, 877]
 CATALAN = [1, 1, 2, 5, 14, 42, 132, 429]
-
-CROSSING = [
-    (4, [[0, 2], [1, 3]]),
-    (5, [[0, 2, 4], [1, 3]]),
-    (5, [[0], [1, 3], [2, 4]]),
-    (5, [[0, 3], [1], [2, 4]]),
-    (6, [[0, 1, 2, 4], [3, 5]]),
-    (6, [[0, 3], [1, 4], [2, 5]]),
-    (7, [[0, 6], [1, 3], [2, 4], [5]]),
-    (10, [[0, 8], [1], [2], [3], [4], [5], [6], [7, 9]]),
-    (10, [[0, 2, 4, 6, 8], [1, 3, 5, 7, 9]]),
-    (10, [[0], [1], [2], [3], [4], [5], [6, 8], [7, 9]]),
-]
-
-FREE = [
-    (0, []),
-    (1, [[0]]),
-    (3, [[0, 2], [1]]),
-    (4, [[0, 3], [1, 2]]),
-    (4, [[0, 1], [2, 3]]),
-    (6, [[0, 1, 5], [2, 4], [3]]),
-    (10, [[0, 9], [1, 8], [2, 7], [3, 6], [4, 5]]),
-    (10, [[0, 3, 6, 9], [1, 2], [4, 5], [7, 8]]),
-    (10, alone(10)),
-    (10, together(10)),
-]
 
 
 class IsPartingTest(unittest.TestCase):
@@ -149,28 +122,6 @@ class OrderTest(unittest.TestCase):
 
 
 class OwnTest(unittest.TestCase):
-    def test_what_is_handed_in_is_not_changed(self):
-        for points, blocks in FREE + CROSSING:
-            for ask in (is_parting, crossing, order_of):
-                with self.subTest(ask=ask.__name__, blocks=blocks):
-                    handed = deepcopy(blocks)
-                    try:
-                        ask(points, handed)
-                    except Crossing:
-                        pass
-                    self.assertEqual(handed, blocks)
-
-    def test_what_is_refused_is_not_changed(self):
-        for why, points, blocks in NO_PARTINGS:
-            for ask in (is_parting, crossing, order_of):
-                with self.subTest(why, ask=ask.__name__):
-                    handed = deepcopy(blocks)
-                    try:
-                        ask(points, handed)
-                    except NoParting:
-                        pass
-                    self.assertEqual(handed, blocks)
-
     def test_the_order_is_the_askers_own(self):
         blocks = [[0, 1, 2]]
         order = order_of(3, blocks)
